@@ -1,0 +1,92 @@
+// Package clause has the form in which atoms, terms and clauses are kept, and writes them in order.
+package clause
+
+import "strconv"
+
+// Symbol is a name or a variable of an atom.
+type Symbol struct {
+	Name   string // empty for a variable
+	Number int    // which variable of its clause it is; 0 for a name
+	Args   int    // how many terms stand in the brackets behind a name
+}
+
+// Clause is a head and a body. A query is a clause without a head.
+// An atom is kept as its symbols in the order in which they are written: how
+// many terms stand behind each of them tells where the brackets are.
+type Clause struct {
+	Head      []Symbol
+	Body      [][]Symbol
+	Variables []string // what they are called in the text, in the order in which they first stand in it
+}
+
+// ProgramText writes a program in order.
+func ProgramText(clauses []Clause) string {
+	text := ""
+	for _, c := range clauses {
+		text += ruleText(c) + "\n"
+	}
+	return text
+}
+
+// QueryText writes a query in order.
+func QueryText(query Clause) string { return bodyText(query.Body) + "." }
+
+// VariableName is what the n-th variable (from 0 on) is called where variables are written.
+func VariableName(n int) string {
+	letter := string(rune('A' + n%26))
+	if n/26 == 0 {
+		return letter
+	}
+	return letter + strconv.Itoa(n/26)
+}
+
+func ruleText(c Clause) string {
+	head := atomText(c.Head)
+	if len(c.Body) == 0 {
+		return head + "."
+	}
+	return head + " :- " + bodyText(c.Body) + "."
+}
+
+func bodyText(body [][]Symbol) string {
+	text := ""
+	for i, atom := range body {
+		if i > 0 {
+			text += ", "
+		}
+		text += atomText(atom)
+	}
+	return text
+}
+
+func atomText(atom []Symbol) string {
+	text := ""
+	var missing []int // for each open bracket, how many of its terms are not yet whole
+	for _, symbol := range atom {
+		text += symbolText(symbol)
+		if symbol.Args > 0 {
+			text += "("
+			missing = append(missing, symbol.Args)
+			continue
+		}
+		// A term that ends may end the term around it, and so on outwards.
+		for len(missing) > 0 {
+			last := len(missing) - 1
+			missing[last]--
+			if missing[last] > 0 {
+				text += ","
+				break
+			}
+			text += ")"
+			missing = missing[:last]
+		}
+	}
+	return text
+}
+
+func symbolText(symbol Symbol) string {
+	if symbol.Name == "" {
+		return VariableName(symbol.Number)
+	}
+	return symbol.Name
+}
