@@ -31,6 +31,54 @@ func ProgramText(clauses []Clause) string {
 // QueryText writes a query in order.
 func QueryText(query Clause) string { return bodyText(query.Body) + "." }
 
+// AnswerText writes the values of a query's variables; these are called as in the query.
+func AnswerText(variables []string, values [][]Symbol) string {
+	if len(variables) == 0 {
+		return "yes"
+	}
+	text := ""
+	for i, value := range inOrder(values) {
+		if i >= len(variables) {
+			break
+		}
+		if i > 0 {
+			text += ","
+		}
+		text += variables[i] + "=" + atomText(value)
+	}
+	return text
+}
+
+// inOrder numbers the variables of atoms or terms anew, in the order in which they first stand in all of them.
+func inOrder(terms [][]Symbol) [][]Symbol {
+	var result [][]Symbol
+	var met []int // the numbers that they had, in their order
+	for _, term := range terms {
+		var changed []Symbol
+		for _, symbol := range term {
+			if symbol.Name == "" {
+				place := placeOf(symbol.Number, met)
+				if place == len(met) {
+					met = append(met, symbol.Number)
+				}
+				symbol.Number = place
+			}
+			changed = append(changed, symbol)
+		}
+		result = append(result, changed)
+	}
+	return result
+}
+
+// placeOf is the length of the list, if the number is not in it.
+func placeOf(number int, list []int) int {
+	place := 0
+	for place < len(list) && list[place] != number {
+		place++
+	}
+	return place
+}
+
 // VariableName is what the n-th variable (from 0 on) is called where variables are written.
 func VariableName(n int) string {
 	letter := string(rune('A' + n%26))

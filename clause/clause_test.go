@@ -51,3 +51,27 @@ func TestQueryText(t *testing.T) {
 		t.Errorf("wrote %q", got)
 	}
 }
+
+func TestAnswerText(t *testing.T) {
+	for _, c := range []struct {
+		variables []string
+		values    [][]clause.Symbol
+		want      string
+	}{
+		{nil, nil, "yes"},
+		{[]string{"X"}, [][]clause.Symbol{{variable(7)}}, "X=A"},
+		{[]string{"X", "Long"}, [][]clause.Symbol{{name("a", 0)}, {name("s", 1), variable(0)}}, "X=a,Long=s(A)"},
+		{[]string{"B", "A"}, [][]clause.Symbol{{variable(9)}, {name("f", 3), variable(3), variable(9), variable(3)}}, "B=A,A=f(B,A,B)"},
+		{[]string{"X"}, nil, ""},
+		{[]string{"X"}, [][]clause.Symbol{{variable(0)}, {variable(1)}}, "X=A"},
+	} {
+		if got := clause.AnswerText(c.variables, c.values); got != c.want {
+			t.Errorf("wrote %q, want %q", got, c.want)
+		}
+	}
+	values := [][]clause.Symbol{{variable(5)}}
+	clause.AnswerText([]string{"X"}, values)
+	if values[0][0].Number != 5 {
+		t.Errorf("the values were changed: %v", values)
+	}
+}

@@ -39,6 +39,19 @@ func Query(s string) (clause.Clause, Fault) {
 	return r.clauses[0], Fault{}
 }
 
+// Both reads a program and a query, and tells which of them is refused, the program first.
+func Both(program string, query string) ([]clause.Clause, clause.Clause, api.Errno) {
+	clauses, programFault := Program(program)
+	if programFault.Err != api.OK {
+		return nil, clause.Clause{}, api.ErrProgram
+	}
+	asked, queryFault := Query(query)
+	if queryFault.Err != api.OK {
+		return nil, clause.Clause{}, api.ErrQuery
+	}
+	return clauses, asked, api.OK
+}
+
 // expected is what the grammar lets stand next.
 type expected int
 

@@ -61,3 +61,17 @@ func TestNothingIsReadWithAFault(t *testing.T) {
 		}
 	}
 }
+
+func TestBoth(t *testing.T) {
+	for _, c := range []struct {
+		program, query string
+		want           api.Errno
+	}{
+		{"a.", "a.", api.OK}, {"", "a.", api.OK}, {"a", "a.", api.ErrProgram}, {"a.", "a", api.ErrQuery}, {"a", "a", api.ErrProgram}, {"", "", api.ErrQuery},
+	} {
+		clauses, query, err := reader.Both(c.program, c.query)
+		if err != c.want || (err != api.OK && (clauses != nil || query.Body != nil)) {
+			t.Errorf("%q, %q: %v, %v, %d, want %d", c.program, c.query, clauses, query, err, c.want)
+		}
+	}
+}

@@ -25,27 +25,6 @@ func Query(s string) (string, api.Errno, int) {
 	return clause.QueryText(query), api.OK, 0
 }
 
-// Search is a search for the answers of a query.
-type Search struct{}
-
-// New makes a search (P6).
-func New(program string, query string) (*Search, api.Errno) { return nil, api.OK }
-
-// Step makes tries, and tells how many (P6).
-func (x *Search) Step(n int) (int, api.Errno) { return 0, api.OK }
-
-// Status tells how the search stands (P6).
-func (x *Search) Status() int { return 0 }
-
-// Answer tells the answer that has been found (P7).
-func (x *Search) Answer() string { return "" }
-
-// Warrant tells by which clauses the answer was found (P8).
-func (x *Search) Warrant() string { return "" }
-
-// Tree tells, at the end of a search, all that was found to fit (P10).
-func (x *Search) Tree() string { return "" }
-
 // Yes checks a warrant, and tells its answer (P8).
 func Yes(program string, query string, warrant string) (string, api.Errno, int) {
 	return "", api.OK, 0
