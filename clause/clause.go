@@ -37,16 +37,25 @@ func AnswerText(variables []string, values [][]Symbol) string {
 		return "yes"
 	}
 	text := ""
-	for i, value := range inOrder(values) {
+	for i, value := range Texts(values) {
 		if i >= len(variables) {
 			break
 		}
 		if i > 0 {
 			text += ","
 		}
-		text += variables[i] + "=" + atomText(value)
+		text += variables[i] + "=" + value
 	}
 	return text
+}
+
+// Texts writes atoms or terms; their variables are called in the order in which they first stand in all of them.
+func Texts(terms [][]Symbol) []string {
+	var texts []string
+	for _, term := range inOrder(terms) {
+		texts = append(texts, atomText(term))
+	}
+	return texts
 }
 
 // inOrder numbers the variables of atoms or terms anew, in the order in which they first stand in all of them.

@@ -1,6 +1,7 @@
 package clause_test
 
 import (
+	"slices"
 	"testing"
 
 	"warrant/clause"
@@ -73,5 +74,19 @@ func TestAnswerText(t *testing.T) {
 	clause.AnswerText([]string{"X"}, values)
 	if values[0][0].Number != 5 {
 		t.Errorf("the values were changed: %v", values)
+	}
+}
+
+func TestTexts(t *testing.T) {
+	terms := [][]clause.Symbol{{name("p", 2), variable(8), variable(3)}, {variable(3)}, {name("a", 0)}, {name("f", 1), variable(0)}}
+	want := []string{"p(A,B)", "B", "a", "f(C)"}
+	if got := clause.Texts(terms); !slices.Equal(got, want) {
+		t.Errorf("wrote %q, want %q", got, want)
+	}
+	if terms[0][1].Number != 8 {
+		t.Errorf("the terms were changed: %v", terms)
+	}
+	if got := clause.Texts(nil); len(got) != 0 {
+		t.Errorf("wrote %q of nothing", got)
 	}
 }

@@ -239,6 +239,7 @@ type record struct {
 	program []rule
 	names   []string
 	tries   []string // one of the words above, or an answer
+	ways    []string // the warrant of each answer; empty for other tries
 	more    bool     // whether there is a try behind them, which MaxTries forbids
 	bound   string   // if the last is too much: the first bound that it passes
 	deepest int
@@ -246,59 +247,76 @@ type record struct {
 }
 
 func recordOf(program, query string) *record {
-	asked := readRules(query, true)[0]
-	r := &record{program: readRules(program, false)}
-	for _, atom := range asked.body {
-		r.names = atom.variables(r.names)
-	}
-	top := place{}
-	for _, atom := range asked.body {
-		top.goals = append(top.goals, atom.called("query "))
-	}
-	for _, name := range r.names {
-		top.values = append(top.values, tree{variable: "query " + name})
-	}
-	r.visit(top)
+	r := newRecord(program, query)
+	r.visit(topOf(query), "")
 	return r
 }
 
+// newRecord is one behind no try.
+func newRecord(program, query string) *record {
+	r := &record{program: readRules(program, false)}
+	for _, atom := range readRules(query, true)[0].body {
+		r.names = atom.variables(r.names)
+	}
+	return r
+}
+
+func topOf(query string) place {
+	top := place{}
+	var names []string
+	for _, atom := range readRules(query, true)[0].body {
+		names = atom.variables(names)
+		top.goals = append(top.goals, atom.called("query "))
+	}
+	for _, name := range names {
+		top.values = append(top.values, tree{variable: "query " + name})
+	}
+	return top
+}
+
 // visit tells whether the search goes on behind the node.
-func (r *record) visit(p place) bool {
+func (r *record) visit(p place, way string) bool {
 	r.deepest = max(r.deepest, len(p.replaced))
-	for _, c := range r.program {
+	for i, c := range r.program {
 		if len(r.tries) == api.MaxTries {
 			r.more = true
 			return false
 		}
-		r.renamed++
-		prefix := fmt.Sprint(r.renamed, " ")
-		b := bindings{}
-		if !b.unify(p.goals[0], c.head.called(prefix)) {
-			r.tries = append(r.tries, unlike)
-			continue
-		}
-		var goals []tree
-		for _, atom := range c.body {
-			goals = append(goals, atom.called(prefix))
-		}
-		goals = append(goals, p.goals[1:]...)
-		replaced := append(append([]tree{}, p.replaced...), p.goals[0])
-		r.bound = passed(b, goals, replaced)
-		if r.bound != "" {
-			r.tries = append(r.tries, tooMuch)
-			return false
-		}
-		child := place{b.applyAll(goals), b.applyAll(p.values), b.applyAll(replaced)}
-		if len(goals) == 0 {
+		to := fmt.Sprint(way, i)
+		child, outcome := r.try(p, c)
+		if outcome == goesOn && len(child.goals) == 0 {
 			r.tries = append(r.tries, r.answer(child))
+			r.ways = append(r.ways, to)
 			continue
 		}
-		r.tries = append(r.tries, goesOn)
-		if !r.visit(child) {
+		r.tries = append(r.tries, outcome)
+		r.ways = append(r.ways, "")
+		if outcome == tooMuch || (outcome == goesOn && !r.visit(child, to+".")) {
 			return false
 		}
 	}
 	return true
+}
+
+// try tells, if it is too much, the first bound that it passes in the record.
+func (r *record) try(p place, c rule) (place, string) {
+	r.renamed++
+	prefix := fmt.Sprint(r.renamed, " ")
+	b := bindings{}
+	if !b.unify(p.goals[0], c.head.called(prefix)) {
+		return place{}, unlike
+	}
+	var goals []tree
+	for _, atom := range c.body {
+		goals = append(goals, atom.called(prefix))
+	}
+	goals = append(goals, p.goals[1:]...)
+	replaced := append(append([]tree{}, p.replaced...), p.goals[0])
+	r.bound = passed(b, goals, replaced)
+	if r.bound != "" {
+		return place{}, tooMuch
+	}
+	return place{b.applyAll(goals), b.applyAll(p.values), b.applyAll(replaced)}, goesOn
 }
 
 func passed(b bindings, goals, replaced []tree) string {
@@ -340,9 +358,10 @@ func (r *record) answer(p place) string {
 // replay is how a search with this record stands behind some Steps, by the words of P6.
 type replay struct {
 	*record
-	made   int
-	status int
-	answer string
+	made    int
+	status  int
+	answer  string
+	warrant string
 }
 
 func (r *replay) step(n int) (int, api.Errno) {
@@ -358,13 +377,13 @@ func (r *replay) step(n int) (int, api.Errno) {
 		last = r.tries[r.made]
 		r.made++
 	}
-	r.answer = ""
+	r.answer, r.warrant = "", ""
 	switch {
 	case last == tooMuch:
 		r.status = api.Full
 	case last != "" && last != unlike && last != goesOn:
 		r.status = api.Answer
-		r.answer = last
+		r.answer, r.warrant = last, r.ways[r.made-1]
 	case r.made == len(r.tries) && !r.more:
 		r.status = api.No
 	case r.made == api.MaxTries:

@@ -19,9 +19,7 @@ func compare(t *testing.T, program, query string, steps int, next func() int) *r
 	}
 	want := &replay{record: recordOf(program, query)}
 	for range steps {
-		if x.Status() != want.status || x.Answer() != want.answer {
-			t.Fatalf("%q, %q: behind %d tries: %d, %q, want %d, %q", program, query, want.made, x.Status(), x.Answer(), want.status, want.answer)
-		}
+		same(t, x, want, program, query)
 		n := next()
 		made, err := x.Step(n)
 		wantMade, wantErr := want.step(n)
@@ -32,10 +30,16 @@ func compare(t *testing.T, program, query string, steps int, next func() int) *r
 			break
 		}
 	}
-	if x.Status() != want.status || x.Answer() != want.answer {
-		t.Fatalf("%q, %q: behind %d tries: %d, %q, want %d, %q", program, query, want.made, x.Status(), x.Answer(), want.status, want.answer)
-	}
+	same(t, x, want, program, query)
 	return want
+}
+
+// same holds what a search tells against the record of one.
+func same(t *testing.T, x *warrant.Search, want *replay, program, query string) {
+	t.Helper()
+	if x.Status() != want.status || x.Answer() != want.answer || x.Warrant() != want.warrant {
+		t.Fatalf("%q, %q: behind %d tries: %d, %q, %q, want %d, %q, %q", program, query, want.made, x.Status(), x.Answer(), x.Warrant(), want.status, want.answer, want.warrant)
+	}
 }
 
 // allAtOnce plays with Steps as large as may be.
@@ -121,14 +125,20 @@ func (w *guesser) query() string {
 	}
 }
 
+// texts are a program and a query of the same kind.
+func (w *guesser) texts() (string, string) {
+	w.depth = w.Intn(4)
+	w.variables = 1 + w.Intn(5)
+	w.predicates = 1 + w.Intn(4)
+	program := w.program()
+	return program, w.query()
+}
+
 func TestRandomSearches(t *testing.T) {
 	w := &guesser{Rand: rand.New(rand.NewSource(6))}
 	met := map[string]int{}
 	for i := range 2000 {
-		w.depth = w.Intn(4)
-		w.variables = 1 + w.Intn(5)
-		w.predicates = 1 + w.Intn(4)
-		program, query := w.program(), w.query()
+		program, query := w.texts()
 		next := func() int { return api.MaxSteps }
 		switch i % 4 {
 		case 1:

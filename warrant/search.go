@@ -4,6 +4,7 @@ import (
 	"warrant/api"
 	"warrant/clause"
 	"warrant/node"
+	"warrant/proof"
 	"warrant/reader"
 )
 
@@ -15,6 +16,7 @@ type Search struct {
 	tries     int
 	status    int
 	values    [][]clause.Symbol // those of the answer, while it is there
+	found     []int             // the numbers of the clauses that led to the answer, while it is there
 }
 
 // level is a node on the way down, and which clause it is to be tried with next.
@@ -46,6 +48,7 @@ func (x *Search) Step(n int) (int, api.Errno) {
 	}
 	x.status = api.Seeks
 	x.values = nil
+	x.found = nil
 	made := 0
 	for made < n && x.status == api.Seeks && len(x.way) > 0 && x.tries < api.MaxTries {
 		x.makeTry()
@@ -72,7 +75,12 @@ func (x *Search) Answer() string {
 }
 
 // Warrant tells by which clauses the answer was found (P8).
-func (x *Search) Warrant() string { return "" }
+func (x *Search) Warrant() string {
+	if x.status != api.Answer {
+		return ""
+	}
+	return proof.Text(x.found)
+}
 
 // Tree tells, at the end of a search, all that was found to fit (P10).
 func (x *Search) Tree() string { return "" }
@@ -92,10 +100,20 @@ func (x *Search) makeTry() {
 	} else if outcome == node.Fits && len(child.Goals) == 0 {
 		x.status = api.Answer
 		x.values = child.Values
+		x.found = x.triedLast()
 	} else if outcome == node.Fits {
 		x.way = append(x.way, level{node: child})
 	}
 	x.leaveTried()
+}
+
+// triedLast is, for each node on the way down, the number of the clause that it was last tried with.
+func (x *Search) triedLast() []int {
+	var numbers []int
+	for _, l := range x.way {
+		numbers = append(numbers, l.next-1)
+	}
+	return numbers
 }
 
 // leaveTried goes up from nodes that have been tried with all clauses.

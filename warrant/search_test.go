@@ -28,6 +28,9 @@ func play(t *testing.T, program, query string, steps ...step) *warrant.Search {
 		if made != s.made || err != api.OK || x.Status() != s.status || x.Answer() != s.answer {
 			t.Fatalf("%.90q, %q: step %d: Step(%d) = %d, %d, then %d, %q, want %d, then %d, %q", program, query, i, s.n, made, err, x.Status(), x.Answer(), s.made, s.status, s.answer)
 		}
+		if (x.Warrant() == "") != (s.status != api.Answer) {
+			t.Fatalf("%.90q, %q: step %d: the status is %d, the warrant %q", program, query, i, s.status, x.Warrant())
+		}
 	}
 	return x
 }
@@ -38,8 +41,8 @@ func begin(t *testing.T, program, query string) *warrant.Search {
 	if x == nil || err != api.OK {
 		t.Fatalf("New(%.90q, %q) = %v, %d", program, query, x, err)
 	}
-	if x.Status() != api.Seeks || x.Answer() != "" {
-		t.Fatalf("New(%.90q, %q): %d, %q", program, query, x.Status(), x.Answer())
+	if x.Status() != api.Seeks || x.Answer() != "" || x.Warrant() != "" {
+		t.Fatalf("New(%.90q, %q): %d, %q, %q", program, query, x.Status(), x.Answer(), x.Warrant())
 	}
 	return x
 }
@@ -331,10 +334,10 @@ func TestAnswerAtTheLastTry(t *testing.T) {
 
 func refuses(t *testing.T, x *warrant.Search, n int) {
 	t.Helper()
-	status, answer := x.Status(), x.Answer()
+	status, answer, way := x.Status(), x.Answer(), x.Warrant()
 	made, err := x.Step(n)
-	if made != 0 || err != api.ErrArg || x.Status() != status || x.Answer() != answer {
-		t.Errorf("Step(%d) = %d, %d, then %d, %q, and before %d, %q", n, made, err, x.Status(), x.Answer(), status, answer)
+	if made != 0 || err != api.ErrArg || x.Status() != status || x.Answer() != answer || x.Warrant() != way {
+		t.Errorf("Step(%d) = %d, %d, then %d, %q, %q, and before %d, %q, %q", n, made, err, x.Status(), x.Answer(), x.Warrant(), status, answer, way)
 	}
 }
 
@@ -464,9 +467,7 @@ func TestSearchesSideBySide(t *testing.T) {
 				t.Fatalf("%q: Step(%d) = %d, %d, want %d, %d", texts[i][1], n, made, err, wantMade, wantErr)
 			}
 			for k, y := range searches {
-				if y.Status() != records[k].status || y.Answer() != records[k].answer {
-					t.Fatalf("%q behind a Step of %q: %d, %q, want %d, %q", texts[k][1], texts[i][1], y.Status(), y.Answer(), records[k].status, records[k].answer)
-				}
+				same(t, y, records[k], texts[k][0], texts[k][1])
 			}
 		}
 	}

@@ -4,6 +4,7 @@ package warrant
 import (
 	"warrant/api"
 	"warrant/clause"
+	"warrant/proof"
 	"warrant/reader"
 )
 
@@ -27,12 +28,20 @@ func Query(s string) (string, api.Errno, int) {
 
 // Yes checks a warrant, and tells its answer (P8).
 func Yes(program string, query string, warrant string) (string, api.Errno, int) {
-	return "", api.OK, 0
+	held, fault := proof.Check(program, query, warrant)
+	if fault.Err != api.OK {
+		return "", fault.Err, fault.Place
+	}
+	return held.Answer(), api.OK, 0
 }
 
 // Explain writes what a warrant says (P9).
 func Explain(program string, query string, warrant string) (string, api.Errno, int) {
-	return "", api.OK, 0
+	held, fault := proof.Check(program, query, warrant)
+	if fault.Err != api.OK {
+		return "", fault.Err, fault.Place
+	}
+	return held.Explanation(), api.OK, 0
 }
 
 // All checks a tree, and tells its answers (P11).
