@@ -4,17 +4,18 @@ import (
 	"strconv"
 
 	"warrant/api"
+	"warrant/number"
 	"warrant/reader"
 )
 
 // Text writes a warrant.
 func Text(numbers []int) string {
 	text := ""
-	for i, number := range numbers {
+	for i, value := range numbers {
 		if i > 0 {
 			text += "."
 		}
-		text += strconv.Itoa(number)
+		text += strconv.Itoa(value)
 	}
 	return text
 }
@@ -27,11 +28,11 @@ func Numbers(warrant string) ([]int, reader.Fault) {
 	var numbers []int
 	at := 0
 	for {
-		number, end := numberAt(warrant, at)
+		value, end := number.At(warrant, at)
 		if end == at {
 			return nil, reader.Fault{Err: api.ErrForm, Place: at}
 		}
-		numbers = append(numbers, number)
+		numbers = append(numbers, value)
 		if end >= len(warrant) {
 			return numbers, reader.Fault{}
 		}
@@ -40,24 +41,4 @@ func Numbers(warrant string) ([]int, reader.Fault) {
 		}
 		at = end + 1
 	}
-}
-
-// numberAt reads as many digits as a number can have, and tells the place
-// behind them: the place where it began, if no digit stands there. Behind a
-// first digit 0 it reads no other, so that one that stands there is at fault.
-func numberAt(s string, at int) (int, int) {
-	if !isDigitAt(s, at) {
-		return 0, at
-	}
-	number := int(s[at] - '0')
-	at++
-	if number > 0 && isDigitAt(s, at) {
-		number = number*10 + int(s[at]-'0')
-		at++
-	}
-	return number, at
-}
-
-func isDigitAt(s string, at int) bool {
-	return at >= 0 && at < len(s) && s[at] >= '0' && s[at] <= '9'
 }

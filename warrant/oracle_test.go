@@ -240,6 +240,7 @@ type record struct {
 	names   []string
 	tries   []string // one of the words above, or an answer
 	ways    []string // the warrant of each answer; empty for other tries
+	shape   string   // the tree of the top node; only a part of it, if the tries end early
 	more    bool     // whether there is a try behind them, which MaxTries forbids
 	bound   string   // if the last is too much: the first bound that it passes
 	deepest int
@@ -277,6 +278,7 @@ func topOf(query string) place {
 // visit tells whether the search goes on behind the node.
 func (r *record) visit(p place, way string) bool {
 	r.deepest = max(r.deepest, len(p.replaced))
+	r.shape += "("
 	for i, c := range r.program {
 		if len(r.tries) == api.MaxTries {
 			r.more = true
@@ -287,14 +289,19 @@ func (r *record) visit(p place, way string) bool {
 		if outcome == goesOn && len(child.goals) == 0 {
 			r.tries = append(r.tries, r.answer(child))
 			r.ways = append(r.ways, to)
+			r.shape += fmt.Sprint(i, "!")
 			continue
 		}
 		r.tries = append(r.tries, outcome)
 		r.ways = append(r.ways, "")
+		if outcome == goesOn {
+			r.shape += fmt.Sprint(i)
+		}
 		if outcome == tooMuch || (outcome == goesOn && !r.visit(child, to+".")) {
 			return false
 		}
 	}
+	r.shape += ")"
 	return true
 }
 
@@ -355,6 +362,17 @@ func (r *record) answer(p place) string {
 	return strings.Join(parts, ",")
 }
 
+// answers are all that the tries of the record give.
+func (r *record) answers() []string {
+	var list []string
+	for i, way := range r.ways {
+		if way != "" {
+			list = append(list, r.tries[i])
+		}
+	}
+	return list
+}
+
 // replay is how a search with this record stands behind some Steps, by the words of P6.
 type replay struct {
 	*record
@@ -362,6 +380,7 @@ type replay struct {
 	status  int
 	answer  string
 	warrant string
+	tree    string
 }
 
 func (r *replay) step(n int) (int, api.Errno) {
@@ -386,6 +405,7 @@ func (r *replay) step(n int) (int, api.Errno) {
 		r.answer, r.warrant = last, r.ways[r.made-1]
 	case r.made == len(r.tries) && !r.more:
 		r.status = api.No
+		r.tree = r.shape
 	case r.made == api.MaxTries:
 		r.status = api.Full
 	default:

@@ -31,6 +31,9 @@ func compare(t *testing.T, program, query string, steps int, next func() int) *r
 		}
 	}
 	same(t, x, want, program, query)
+	if want.status == api.No {
+		tells(t, program, query, x.Tree(), want.answers())
+	}
 	return want
 }
 
@@ -39,6 +42,9 @@ func same(t *testing.T, x *warrant.Search, want *replay, program, query string) 
 	t.Helper()
 	if x.Status() != want.status || x.Answer() != want.answer || x.Warrant() != want.warrant {
 		t.Fatalf("%q, %q: behind %d tries: %d, %q, %q, want %d, %q, %q", program, query, want.made, x.Status(), x.Answer(), x.Warrant(), want.status, want.answer, want.warrant)
+	}
+	if x.Tree() != want.tree || x.Tree() != want.tree {
+		t.Fatalf("%q, %q: behind %d tries: %d, the tree %q, want %q", program, query, want.made, x.Status(), x.Tree(), want.tree)
 	}
 }
 

@@ -1,6 +1,8 @@
 package warrant
 
 import (
+	"strconv"
+
 	"warrant/api"
 	"warrant/clause"
 	"warrant/node"
@@ -17,6 +19,7 @@ type Search struct {
 	status    int
 	values    [][]clause.Symbol // those of the answer, while it is there
 	found     []int             // the numbers of the clauses that led to the answer, while it is there
+	tree      string            // that of the top node, as far as tries have been made
 }
 
 // level is a node on the way down, and which clause it is to be tried with next.
@@ -33,7 +36,7 @@ func New(program string, query string) (*Search, api.Errno) {
 	}
 	x := Search{clauses: clauses, variables: asked.Variables, status: api.Seeks}
 	top := node.Top(asked)
-	x.way = append(x.way, level{node: top})
+	x.enter(top)
 	x.leaveTried()
 	return &x, api.OK
 }
@@ -59,6 +62,7 @@ func (x *Search) Step(n int) (int, api.Errno) {
 	}
 	if x.status == api.Full {
 		x.way = nil
+		x.tree = ""
 	}
 	return made, api.OK
 }
@@ -83,7 +87,12 @@ func (x *Search) Warrant() string {
 }
 
 // Tree tells, at the end of a search, all that was found to fit (P10).
-func (x *Search) Tree() string { return "" }
+func (x *Search) Tree() string {
+	if x.status != api.No {
+		return ""
+	}
+	return x.tree
+}
 
 // makeTry makes the next try, and tells by the status if it gave an answer or was too much.
 func (x *Search) makeTry() {
@@ -91,20 +100,30 @@ func (x *Search) makeTry() {
 	if last < 0 || x.way[last].next >= len(x.clauses) {
 		return
 	}
-	tried := x.clauses[x.way[last].next]
+	tried := x.way[last].next
 	x.way[last].next++
 	x.tries++
-	child, outcome := x.way[last].node.Try(tried)
+	child, outcome := x.way[last].node.Try(x.clauses[tried])
 	if outcome == node.TooMuch {
 		x.status = api.Full
-	} else if outcome == node.Fits && len(child.Goals) == 0 {
-		x.status = api.Answer
-		x.values = child.Values
-		x.found = x.triedLast()
 	} else if outcome == node.Fits {
-		x.way = append(x.way, level{node: child})
+		x.tree += strconv.Itoa(tried)
+		x.enter(child)
 	}
 	x.leaveTried()
+}
+
+// enter goes down to a node. One without goals is an answer, and is left at once.
+func (x *Search) enter(n node.Node) {
+	if len(n.Goals) > 0 {
+		x.tree += "("
+		x.way = append(x.way, level{node: n})
+		return
+	}
+	x.tree += "!"
+	x.status = api.Answer
+	x.values = n.Values
+	x.found = x.triedLast()
 }
 
 // triedLast is, for each node on the way down, the number of the clause that it was last tried with.
@@ -120,6 +139,7 @@ func (x *Search) triedLast() []int {
 func (x *Search) leaveTried() {
 	last := len(x.way) - 1
 	for last >= 0 && x.way[last].next >= len(x.clauses) {
+		x.tree += ")"
 		x.way = x.way[:last]
 		last--
 	}

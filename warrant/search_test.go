@@ -31,6 +31,9 @@ func play(t *testing.T, program, query string, steps ...step) *warrant.Search {
 		if (x.Warrant() == "") != (s.status != api.Answer) {
 			t.Fatalf("%.90q, %q: step %d: the status is %d, the warrant %q", program, query, i, s.status, x.Warrant())
 		}
+		if (x.Tree() == "") != (s.status != api.No) {
+			t.Fatalf("%.90q, %q: step %d: the status is %d, the tree %q", program, query, i, s.status, x.Tree())
+		}
 	}
 	return x
 }
@@ -41,8 +44,8 @@ func begin(t *testing.T, program, query string) *warrant.Search {
 	if x == nil || err != api.OK {
 		t.Fatalf("New(%.90q, %q) = %v, %d", program, query, x, err)
 	}
-	if x.Status() != api.Seeks || x.Answer() != "" || x.Warrant() != "" {
-		t.Fatalf("New(%.90q, %q): %d, %q, %q", program, query, x.Status(), x.Answer(), x.Warrant())
+	if x.Status() != api.Seeks || x.Answer() != "" || x.Warrant() != "" || x.Tree() != "" {
+		t.Fatalf("New(%.90q, %q): %d, %q, %q, %q", program, query, x.Status(), x.Answer(), x.Warrant(), x.Tree())
 	}
 	return x
 }
@@ -334,10 +337,10 @@ func TestAnswerAtTheLastTry(t *testing.T) {
 
 func refuses(t *testing.T, x *warrant.Search, n int) {
 	t.Helper()
-	status, answer, way := x.Status(), x.Answer(), x.Warrant()
+	status, answer, way, tree := x.Status(), x.Answer(), x.Warrant(), x.Tree()
 	made, err := x.Step(n)
-	if made != 0 || err != api.ErrArg || x.Status() != status || x.Answer() != answer || x.Warrant() != way {
-		t.Errorf("Step(%d) = %d, %d, then %d, %q, %q, and before %d, %q, %q", n, made, err, x.Status(), x.Answer(), x.Warrant(), status, answer, way)
+	if made != 0 || err != api.ErrArg || x.Status() != status || x.Answer() != answer || x.Warrant() != way || x.Tree() != tree {
+		t.Errorf("Step(%d) = %d, %d, then %d, %q, %q, %q, and before %d, %q, %q, %q", n, made, err, x.Status(), x.Answer(), x.Warrant(), x.Tree(), status, answer, way, tree)
 	}
 }
 

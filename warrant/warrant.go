@@ -6,6 +6,7 @@ import (
 	"warrant/clause"
 	"warrant/proof"
 	"warrant/reader"
+	"warrant/trees"
 )
 
 // Program reads a program and writes it in order (P3, P4).
@@ -46,5 +47,9 @@ func Explain(program string, query string, warrant string) (string, api.Errno, i
 
 // All checks a tree, and tells its answers (P11).
 func All(program string, query string, tree string) ([]string, api.Errno, int) {
-	return nil, api.OK, 0
+	answers, fault := trees.Answers(program, query, tree)
+	if fault.Err != api.OK {
+		return nil, fault.Err, fault.Place
+	}
+	return answers, api.OK, 0
 }
